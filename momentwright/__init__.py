@@ -1,0 +1,1 @@
+"""Momentwright: weights told by their moments."""

@@ -1,0 +1,103 @@
+"""Polynomials: lists of fractions, place k going with x to the power k, the last one not 0; [] is nought."""
+
+from momentwright.errors import NoPolynomial
+from momentwright.fractions import is_fraction, minus, over, plus, ratio, times
+from momentwright.wholes import greatest_divisor, trimmed, wholes_parted, wholes_shared
+
+ZERO = (0, 1)
+
+
+def is_polynomial(thing):
+    """Whether thing, which may be anything, is a polynomial, of however many numbers."""
+    if not isinstance(thing, list):
+        return False
+    for number in thing:
+        if not is_fraction(number):
+            return False
+    return len(thing) == 0 or thing[-1] != ZERO
+
+
+def number_of(f, place):
+    """The number of f at a place, 0 where f does not reach so far."""
+    return f[place] if place < len(f) else ZERO
+
+
+def summed(f, g):
+    """The sum of two polynomials."""
+    many = max(len(f), len(g))
+    return trimmed([plus(number_of(f, k), number_of(g, k)) for k in range(many)], ZERO)
+
+
+def lessened(f, g):
+    """The polynomial f less g."""
+    many = max(len(f), len(g))
+    return trimmed([minus(number_of(f, k), number_of(g, k)) for k in range(many)], ZERO)
+
+
+def cleared(f):
+    """A tuple (wholes, bottom): a list of whole numbers, which divided by bottom are those of f."""
+    bottom = 1
+    for number in f:
+        bottom *= number[1] // greatest_divisor(bottom, number[1])
+    return ([top * (bottom // own) for top, own in f], bottom)
+
+
+def divided(wholes, bottom):
+    """The polynomial whose numbers are the whole numbers, each divided by bottom."""
+    return trimmed([ratio(whole, bottom) for whole in wholes], ZERO)
+
+
+def multiplied(f, g):
+    """The product of two polynomials."""
+    if not f or not g:
+        return []
+    f_wholes, f_bottom = cleared(f)
+    g_wholes, g_bottom = cleared(g)
+    product = [0] * (len(f) + len(g) - 1)
+    for j, one in enumerate(f_wholes):
+        for k, other in enumerate(g_wholes):
+            product[j + k] += one * other
+    return divided(product, f_bottom * g_bottom)
+
+
+def grown(f, by):
+    """The polynomial that is f so many times as the fraction says."""
+    return trimmed([times(number, by) for number in f], ZERO)
+
+
+def slope(f):
+    """The slope of f: k times its number at place k stands at place k - 1."""
+    return [times((k, 1), f[k]) for k in range(1, len(f))]
+
+
+def led(f):
+    """The polynomial led by 1 that is so many times f; of nought nought."""
+    return [over(number, f[-1]) for number in f]
+
+
+def number_at(f, x):
+    """The number that f comes to at the fraction x."""
+    top, bottom = x
+    wholes, scale = cleared(f)
+    # What is reached so far is total divided by power: so only one fraction is made, at the end.
+    total, power = 0, 1
+    for whole in reversed(wholes):
+        power *= bottom
+        total = total * top + whole * power
+    return ratio(total, scale * power)
+
+
+def parted(f, g):
+    """A tuple (quotient, rest): the quotient times g, and the rest of lesser degree than g, come to f."""
+    if not g:
+        raise NoPolynomial("no polynomial is divided by nought")
+    f_wholes, f_bottom = cleared(f)
+    g_wholes, g_bottom = cleared(g)
+    quotient, rest, scale = wholes_parted(f_wholes, g_wholes)
+    bottom = scale * f_bottom
+    return (divided([whole * g_bottom for whole in quotient], bottom), divided(rest, bottom))
+
+
+def shared(f, g):
+    """The polynomial led by 1 of the greatest degree that leaves no rest in both; of two noughts nought."""
+    return led(divided(wholes_shared(cleared(f)[0], cleared(g)[0]), 1))
