@@ -2,7 +2,7 @@
 
 from momentwright.errors import NoPolynomial
 from momentwright.fractions import is_fraction, minus, over, plus, ratio, times
-from momentwright.wholes import greatest_divisor, trimmed, wholes_parted, wholes_shared
+from momentwright.wholes import greatest_divisor, trimmed, wholes_at, wholes_multiplied, wholes_parted, wholes_shared
 
 ZERO = (0, 1)
 
@@ -49,15 +49,9 @@ def divided(wholes, bottom):
 
 def multiplied(f, g):
     """The product of two polynomials."""
-    if not f or not g:
-        return []
     f_wholes, f_bottom = cleared(f)
     g_wholes, g_bottom = cleared(g)
-    product = [0] * (len(f) + len(g) - 1)
-    for j, one in enumerate(f_wholes):
-        for k, other in enumerate(g_wholes):
-            product[j + k] += one * other
-    return divided(product, f_bottom * g_bottom)
+    return divided(wholes_multiplied(f_wholes, g_wholes), f_bottom * g_bottom)
 
 
 def grown(f, by):
@@ -77,14 +71,9 @@ def led(f):
 
 def number_at(f, x):
     """The number that f comes to at the fraction x."""
-    top, bottom = x
-    wholes, scale = cleared(f)
-    # What is reached so far is total divided by power: so only one fraction is made, at the end.
-    total, power = 0, 1
-    for whole in reversed(wholes):
-        power *= bottom
-        total = total * top + whole * power
-    return ratio(total, scale * power)
+    wholes, bottom = cleared(f)
+    total, scale = wholes_at(wholes, x[0], x[1])
+    return ratio(total, bottom * scale)
 
 
 def parted(f, g):

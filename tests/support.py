@@ -1,6 +1,7 @@
 """What the tests share: answers worked out another way, by Python's own fractions, and made-up inputs."""
 
 from fractions import Fraction
+from math import isqrt
 
 
 def py(one):
@@ -80,3 +81,79 @@ def nested(depth):
     for _ in range(depth - 1):
         thing = [thing]
     return thing
+
+
+def cross(*factors):
+    """The product of some polynomials."""
+    f = poly(1)
+    for factor in factors:
+        f = product(f, factor)
+    return f
+
+
+def value(f, x):
+    """The number that f comes to at one of Python's own fractions."""
+    return sum((py(number) * Fraction(x) ** k for k, number in enumerate(f)), Fraction(0))
+
+
+def some_crowd(chance, many, figures):
+    """A crowd of just so many spots."""
+    spots = set()
+    while len(spots) < many:
+        spots.add(py(some_fraction(chance, figures)))
+    weights = [abs(py(some_fraction(chance, figures))) or Fraction(1) for _ in spots]
+    return [(our(spot), our(weight)) for spot, weight in zip(sorted(spots), weights)]
+
+
+def crowd(*pairs):
+    """The crowd of some pairs (spot, weight) of numbers."""
+    return [(our(spot), our(weight)) for spot, weight in pairs]
+
+
+def sums_by_hand(pairs, many):
+    """The sums of a crowd, power by power."""
+    return [our(sum((py(weight) * py(spot) ** k for spot, weight in pairs), Fraction(0))) for k in range(many)]
+
+
+class Surd:
+    """The number part + times * the square root of under, all exact; under is no square."""
+
+    def __init__(self, part, times=0, under=2):
+        self.part, self.times, self.under = Fraction(part), Fraction(times), under
+
+    def least(self):
+        """The polynomial led by 1 of least degree that has it as a root."""
+        if self.times == 0:
+            return poly(-self.part, 1)
+        return poly(self.part ** 2 - self.times ** 2 * self.under, -2 * self.part, 1)
+
+    def near(self):
+        """One of Python's own fractions so near that these are ordered as the numbers are."""
+        return self.part + self.times * Fraction(isqrt(self.under * 10 ** 200), 10 ** 100)
+
+    def sign(self):
+        """The sign of the number."""
+        one, other = self.part, self.times
+        if one >= 0 and other >= 0:
+            return 1 if one > 0 or other > 0 else 0
+        if one <= 0 and other <= 0:
+            return -1
+        squares = one ** 2 - other ** 2 * self.under
+        return (1 if squares > 0 else -1) * (1 if one > 0 else -1)
+
+    def put_in(self, f):
+        """What f comes to at the number."""
+        told = Surd(0, 0, self.under)
+        for number in reversed(f):
+            part = told.part * self.part + told.times * self.times * self.under + py(number)
+            told = Surd(part, told.part * self.times + told.times * self.part, self.under)
+        return told
+
+
+def surds_of(roots):
+    """The numbers and, where they are no fractions, those that share their least polynomial, rising."""
+    told = {}
+    for root in roots:
+        for times in (root.times, -root.times):
+            told[(root.part, times, root.under if times else 0)] = Surd(root.part, times, root.under)
+    return sorted(told.values(), key=Surd.near)

@@ -1,40 +1,83 @@
-"""Point 3 for polynomials: what is handed in stays as it was, and what is told is the asker's own."""
+"""Point 3: what is handed in stays as it was, and what is told is the asker's own."""
 
 import copy
 import unittest
 
-from momentwright.errors import NoPolynomial
+from momentwright.chains import chain, how_many, signs_at
+from momentwright.crowds import is_crowd, sums_of
+from momentwright.errors import NoPolynomial, NoSums
 from momentwright.polynomials import (
     grown, is_polynomial, led, lessened, multiplied, number_at, parted, shared, slope, summed,
 )
-from support import poly
+from momentwright.steps import by_steps, steps
+from momentwright.sums import square_sum, worth
+from support import crowd, poly, with_roots
 
-LISTS = (
+POLYNOMIALS = (
     [], poly(1), poly(3), poly(0, 1), poly(-1, 1), poly(1, 1), poly(1, "1/2", "-2/3"), poly(-1, 0, 1), poly(1, 2, 1),
 )
-
+ROOTED = (poly(3), poly(-2, 0, 1), with_roots(1, 1, 2), with_roots(-1, 0, 0, 0, 5), poly(1, 0, 1), poly(1, -3, 0, 1))
 FRACTIONS = ((0, 1), (1, 1), (-2, 3))
+CROWDS = ([], crowd((0, 1)), crowd((-1, "1/2"), ("1/3", 2)), crowd((-1, 1), (0, 1), (2, 1)))
+SUMS = (
+    poly(0), poly(5), poly(-1, 2), poly(1, 0, 1), poly(2, 0, 2, 0, 2), poly(0, 0, 3),
+    poly(1, "1/2", "1/3", "1/4", "1/5"),
+)
+THINGS = (
+    [(1, 1), [(1, 2), {"a": [None, True]}], (0, 1)], [((0, 1), (1, 1)), [[], ["a"]]], {"a": [1, [2]]}, ([[]], [{}]),
+    None,
+)
 
-BY_TWO = (summed, lessened, multiplied, parted, shared)
-BY_FRACTION = (grown, number_at)
-BY_ONE = (slope, led, is_polynomial)
+
+def rows():
+    """Tuples (ask, handed in) of questions that are answered."""
+    told = [(ask, [f, g]) for ask in (summed, lessened, multiplied, shared) for f in POLYNOMIALS for g in POLYNOMIALS]
+    told += [(parted, [f, g]) for f in POLYNOMIALS for g in POLYNOMIALS if g]
+    told += [(ask, [f, x]) for ask in (grown, number_at) for f in POLYNOMIALS for x in FRACTIONS]
+    told += [(ask, [f]) for ask in (slope, led, is_polynomial) for f in POLYNOMIALS]
+    told += [(ask, [thing]) for ask in (is_polynomial, is_crowd) for thing in THINGS + CROWDS]
+    told += [(sums_of, [one, many]) for one in CROWDS for many in (1, 5)]
+    told += [(steps, [sums]) for sums in SUMS]
+    told += [(ask, [sums, f]) for ask in (worth, by_steps) for sums in SUMS for f in ([], poly(3))]
+    told += [(square_sum, [SUMS[-1], f, g]) for f in POLYNOMIALS for g in POLYNOMIALS]
+    told += [(by_steps, [SUMS[-1], f]) for f in POLYNOMIALS]
+    told += [(chain, [f]) for f in ROOTED]
+    told += [(how_many, [f, low, high]) for f in ROOTED for low in (None, (0, 1)) for high in (None, (0, 1), (2, 1))]
+    told += [(signs_at, [f, g]) for f in ROOTED for g in POLYNOMIALS]
+    return told
+
+
+def refused_rows():
+    """Tuples (ask, handed in, refusal) of questions that are refused."""
+    told = [(parted, [f, []], NoPolynomial) for f in POLYNOMIALS]
+    told += [(chain, [[]], NoPolynomial), (how_many, [[], (1, 1), (0, 1)], NoPolynomial)]
+    told += [(signs_at, [[], g], NoPolynomial) for g in POLYNOMIALS]
+    told += [(ask, [sums, poly(*range(1, 8))], NoSums) for ask in (worth, by_steps) for sums in SUMS]
+    told += [(square_sum, [sums, poly(1, 2, 3), poly(1, 2, 3, 4)], NoSums) for sums in SUMS]
+    return told
 
 
 def questions():
-    """Tuples (ask, handed in) of all questions about the lists, each with lists of its own."""
-    rows = [(ask, [f, g]) for ask in BY_TWO for f in LISTS for g in LISTS if ask != parted or g]
-    rows += [(ask, [f, x]) for ask in BY_FRACTION for f in LISTS for x in FRACTIONS]
-    rows += [(ask, [f]) for ask in BY_ONE for f in LISTS]
-    return [(ask, copy.deepcopy(handed)) for ask, handed in rows]
+    """The questions that are answered, each with lists of its own handed in."""
+    return [(ask, copy.deepcopy(handed)) for ask, handed in rows()]
 
 
-def lists_of(told):
-    """The lists in what was told."""
-    if isinstance(told, list):
-        return [told]
-    if isinstance(told, tuple):
-        return [part for part in told if isinstance(part, list)]
-    return []
+def lists_of(thing):
+    """All lists in a thing, however deep, itself among them, each as often as it stands there."""
+    told = [thing] if isinstance(thing, list) else []
+    if isinstance(thing, dict):
+        thing = list(thing.values())
+    if isinstance(thing, (list, tuple)):
+        for part in thing:
+            told += lists_of(part)
+    return told
+
+
+def spoil(thing):
+    """Change all lists in a thing."""
+    for one in lists_of(thing):
+        one.append((99, 1))
+        one.reverse()
 
 
 class TestOwn(unittest.TestCase):
@@ -48,9 +91,10 @@ class TestOwn(unittest.TestCase):
     def test_no_list_that_is_told_was_handed_in_nor_stands_twice(self):
         for ask, handed in questions():
             mine = lists_of(ask(*handed))
-            others = [thing for thing in handed if isinstance(thing, list)]
+            mine_again = lists_of(ask(*handed))
+            others = lists_of(handed)
             for place, one in enumerate(mine):
-                for other in mine[place + 1:] + others:
+                for other in mine[place + 1:] + mine_again + others:
                     self.assertIsNot(one, other, ask.__name__)
 
     def test_what_is_told_may_be_changed(self):
@@ -58,9 +102,7 @@ class TestOwn(unittest.TestCase):
             before = copy.deepcopy(handed)
             told = ask(*handed)
             kept = copy.deepcopy(told)
-            for one in lists_of(told):
-                one.append((99, 1))
-                one.reverse()
+            spoil(told)
             self.assertEqual(handed, before, ask.__name__)
             self.assertEqual(ask(*handed), kept, ask.__name__)
 
@@ -68,21 +110,22 @@ class TestOwn(unittest.TestCase):
         quotient, rest = parted([], poly(1, 1))
         quotient.append((1, 1))
         self.assertEqual(rest, [])
+        first, second = chain(poly(1, 1))
+        first.append((1, 1))
+        self.assertEqual(second, poly(1))
 
     def test_what_was_handed_in_may_be_changed_later(self):
         for ask, handed in questions():
             told = ask(*handed)
             kept = copy.deepcopy(told)
-            for thing in handed:
-                if isinstance(thing, list):
-                    thing.append((99, 1))
-                    thing.reverse()
+            spoil(handed)
             self.assertEqual(told, kept, ask.__name__)
 
     def test_the_same_list_handed_in_twice(self):
-        for ask in BY_TWO:
-            for f in LISTS:
-                if ask == parted and not f:
+        asks = (summed, lessened, multiplied, shared, parted, signs_at)
+        for ask in asks:
+            for f in POLYNOMIALS:
+                if ask in (parted, signs_at) and not f:
                     continue
                 same = copy.deepcopy(f)
                 told = ask(same, same)
@@ -91,23 +134,14 @@ class TestOwn(unittest.TestCase):
                 for one in lists_of(told):
                     self.assertIsNot(one, same, ask.__name__)
 
-    def test_a_refusal_changes_nothing(self):
-        for f in LISTS:
-            handed, nought = copy.deepcopy(f), []
+    def test_a_refusal_changes_nothing_and_comes_again(self):
+        for ask, handed, refusal in refused_rows():
+            given = copy.deepcopy(handed)
             for _ in range(2):
-                with self.assertRaises(NoPolynomial):
-                    parted(handed, nought)
-            self.assertEqual((handed, nought), (f, []))
-        same = []
-        with self.assertRaises(NoPolynomial):
-            parted(same, same)
-        self.assertEqual(same, [])
-
-    def test_a_thing_that_is_no_polynomial_stays_as_it_was(self):
-        thing = [(1, 1), [(1, 2), {"a": [None, True]}], (0, 1)]
-        before = copy.deepcopy(thing)
-        self.assertIs(is_polynomial(thing), False)
-        self.assertEqual(thing, before)
+                with self.assertRaises(refusal) as caught:
+                    ask(*given)
+                self.assertIs(caught.exception.__class__, refusal)
+            self.assertEqual(given, handed, ask.__name__)
 
 
 if __name__ == "__main__":
