@@ -2,7 +2,9 @@
 
 from momentwright.errors import NoPolynomial
 from momentwright.fractions import is_fraction, minus, over, plus, ratio, times
-from momentwright.wholes import greatest_divisor, trimmed, wholes_at, wholes_multiplied, wholes_parted, wholes_shared
+from momentwright.wholes import (
+    greatest_divisor, trimmed, wholes_at, wholes_multiplied, wholes_parted, wholes_rests, wholes_shared,
+)
 
 ZERO = (0, 1)
 
@@ -90,3 +92,27 @@ def parted(f, g):
 def shared(f, g):
     """The polynomial led by 1 of the greatest degree that leaves no rest in both; of two noughts nought."""
     return led(divided(wholes_shared(cleared(f)[0], cleared(g)[0]), 1))
+
+
+def product_rest(f, g, other):
+    """The rest of f times g by another one that is not nought."""
+    f_wholes, f_bottom = cleared(f)
+    g_wholes, g_bottom = cleared(g)
+    rest, scale = wholes_parted(wholes_multiplied(f_wholes, g_wholes), cleared(other)[0])[1:]
+    return divided(rest, f_bottom * g_bottom * scale)
+
+
+def inverse(f, g):
+    """The polynomial of lesser degree than g that times f leaves the rest 1 by g.
+
+    The one f is of lesser degree than g, and they share nothing.
+    """
+    wholes, bottom = cleared(f)
+    # How many times f each rest is, but for so many times g.
+    former, latter, last = [], [1], wholes
+    for rest, quotient, top, scale in wholes_rests(cleared(g)[0], wholes):
+        numbers = [-whole for whole in wholes_multiplied(quotient, latter)]
+        for place, whole in enumerate(former):
+            numbers[place] += scale * whole
+        former, latter, last = latter, [whole // top for whole in numbers], rest
+    return divided([whole * bottom for whole in latter], last[0])

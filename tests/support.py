@@ -157,3 +157,132 @@ def surds_of(roots):
         for times in (root.times, -root.times):
             told[(root.part, times, root.under if times else 0)] = Surd(root.part, times, root.under)
     return sorted(told.values(), key=Surd.near)
+
+
+def rest_by_hand(f, g):
+    """The rest of f by g."""
+    rest = padded(f, len(f))
+    while len(rest) >= len(g):
+        times = rest[-1] / py(g[-1])
+        for k, number in enumerate(g):
+            rest[len(rest) - len(g) + k] -= times * py(number)
+        rest.pop()
+    return cut(rest)
+
+
+def chain_by_hand(f):
+    """The chain of f, link by link."""
+    told = [f, cut(k * py(number) for k, number in enumerate(f) if k > 0)]
+    while told[-1]:
+        told.append(cut(-py(number) for number in rest_by_hand(told[-2], told[-1])))
+    return told[:-1]
+
+
+def changes_by_hand(links, x):
+    """How often the signs of a chain's links change at one of Python's own fractions."""
+    numbers = [number for number in (value(link, x) for link in links) if number != 0]
+    return sum((one < 0) != (other < 0) for one, other in zip(numbers, numbers[1:]))
+
+
+def real_roots(f):
+    """Tuples (low, high) around the real roots of f, which has none twice: both no roots, and very near."""
+    links = chain_by_hand(f)
+    bound = 1 + max((abs(py(number) / py(f[-1])) for number in f), default=0)
+    waiting, told = [(-bound, bound)], []
+    while waiting:
+        low, high = waiting.pop()
+        many = changes_by_hand(links, low) - changes_by_hand(links, high)
+        if many == 1 and high - low < Fraction(1, 10 ** 30):
+            told.append((low, high))
+        elif many > 0:
+            # Not halves, so that no root that is a plain fraction is hit.
+            middle = low + (high - low) * Fraction(5001, 10007)
+            assert value(f, middle) != 0
+            waiting += [(middle, high), (low, middle)]
+    return told
+
+
+def is_flock_by_hand(roots, weights):
+    """Whether two polynomials are a flock, but for roots that are very near those of the weights."""
+    if not roots or roots[-1] != (1, 1) or len(roots) > 7 or len(weights) >= len(roots):
+        return False
+    if len(chain_by_hand(roots)[-1]) > 1:
+        return False
+    around = real_roots(roots)
+    return len(around) == len(roots) - 1 and all(value(weights, x) > 0 for ends in around for x in ends)
+
+
+def flock_sums_by_hand(roots, weights, many):
+    """The sums of a flock: traces of a matrix whose proper numbers are the roots."""
+    size = len(roots) - 1
+
+    def grow(row):
+        """The row of x times a polynomial of lesser degree, as the rest by the roots."""
+        return [(row[k - 1] if k else 0) - row[-1] * py(roots[k]) for k in range(size)]
+
+    rows = []
+    for place in range(size):
+        row = [Fraction(int(k == place)) for k in range(size)]
+        whole = [Fraction(0)] * size
+        for number in weights:
+            whole = [one + py(number) * other for one, other in zip(whole, row)]
+            row = grow(row)
+        rows.append(whole)
+    told = []
+    for _ in range(many):
+        told.append(our(sum((rows[k][k] for k in range(size)), Fraction(0))))
+        rows = [grow(row) for row in rows]
+    return told
+
+
+def square(sums, f, g):
+    """The square sum of two polynomials, as one of Python's own fractions."""
+    return sum((py(one) * py(other) for one, other in zip(product(f, g), sums)), Fraction(0))
+
+
+def bars_by_hand(sums, bar):
+    """Whether a tuple with a word and polynomials is a bar of the sums."""
+    word, f, *others = bar
+    if word == "below":
+        return not others and len(product(f, f)) <= len(sums) and square(sums, f, f) < 0
+    g, = others
+    fits = max(len(product(f, f)), len(product(f, g))) <= len(sums)
+    return word == "nought" and fits and square(sums, f, f) == 0 and square(sums, f, g) != 0
+
+
+def drawn_sums(chance, many, figures):
+    """Sums of one sort or another: drawn ones, those of a crowd, such with one changed."""
+    sort = chance.randrange(3)
+    if sort == 0:
+        return [some_fraction(chance, figures) for _ in range(many)]
+    sums = sums_by_hand(some_crowd(chance, chance.randint(0, 6), figures), many)
+    if sort == 1:
+        sums[chance.randrange(many)] = some_fraction(chance, figures)
+    return sums
+
+
+def some_roots(chance, many):
+    """Some numbers, fractions and others."""
+    told = []
+    for _ in range(many):
+        part = py(some_fraction(chance, chance.choice((1, 2))))
+        times = chance.choice((0, 0, py(some_fraction(chance, 1))))
+        told.append(Surd(part, times, chance.choice((2, 3, 5))))
+    return told
+
+
+NO_ROOTS = (poly(1, 0, 1), poly(3, 2, 1), poly("1/2", 0, 0, 0, 7))
+
+
+def with_surds(chance, roots):
+    """A polynomial whose real roots are these numbers and those that come with them, up to three times each."""
+    f = poly(py(some_fraction(chance, 2)) or 1)
+    unlike = {}
+    for root in roots:
+        unlike[tuple(root.least())] = root.least()
+    for factor in unlike.values():
+        for _ in range(chance.choice((1, 1, 2, 3))):
+            f = cross(f, factor)
+    if chance.random() < 0.3:
+        f = cross(f, chance.choice(NO_ROOTS))
+    return f

@@ -6,52 +6,10 @@ from fractions import Fraction
 
 from momentwright.chains import chain, how_many, signs_at
 from momentwright.errors import NoPolynomial
-from support import Surd, cross, cut, our, padded, poly, py, some_fraction, some_polynomial, surds_of, with_roots
-
-NO_ROOTS = (poly(1, 0, 1), poly(3, 2, 1), poly("1/2", 0, 0, 0, 7))
-
-
-def rest_by_hand(f, g):
-    """The rest of f by g."""
-    rest = padded(f, len(f))
-    while len(rest) >= len(g):
-        times = rest[-1] / py(g[-1])
-        for k, number in enumerate(g):
-            rest[len(rest) - len(g) + k] -= times * py(number)
-        rest.pop()
-    return cut(rest)
-
-
-def chain_by_hand(f):
-    """The chain of f, link by link."""
-    told = [f, cut(k * py(number) for k, number in enumerate(f) if k > 0)]
-    while told[-1]:
-        told.append(cut(-py(number) for number in rest_by_hand(told[-2], told[-1])))
-    return told[:-1]
-
-
-def some_roots(chance, many):
-    """Some numbers, fractions and others."""
-    told = []
-    for _ in range(many):
-        part = py(some_fraction(chance, chance.choice((1, 2))))
-        times = chance.choice((0, 0, py(some_fraction(chance, 1))))
-        told.append(Surd(part, times, chance.choice((2, 3, 5))))
-    return told
-
-
-def with_surds(chance, roots):
-    """A polynomial whose real roots are these numbers and those that come with them, up to three times each."""
-    f = poly(py(some_fraction(chance, 2)) or 1)
-    unlike = {}
-    for root in roots:
-        unlike[tuple(root.least())] = root.least()
-    for factor in unlike.values():
-        for _ in range(chance.choice((1, 1, 2, 3))):
-            f = cross(f, factor)
-    if chance.random() < 0.3:
-        f = cross(f, chance.choice(NO_ROOTS))
-    return f
+from support import (
+    NO_ROOTS, Surd, chain_by_hand, cross, our, poly, py, some_fraction, some_polynomial, some_roots, surds_of,
+    with_roots, with_surds,
+)
 
 
 class TestChain(unittest.TestCase):

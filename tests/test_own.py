@@ -3,13 +3,17 @@
 import copy
 import unittest
 
+from momentwright.back import back, bars
 from momentwright.chains import chain, how_many, signs_at
 from momentwright.crowds import is_crowd, sums_of
 from momentwright.errors import NoPolynomial, NoSums
+from momentwright.flocks import crowd_of, flock_of, flock_sums, is_flock
+from momentwright.more import fewest, is_tight, led_on, next_sum
 from momentwright.polynomials import (
     grown, is_polynomial, led, lessened, multiplied, number_at, parted, shared, slope, summed,
 )
 from momentwright.steps import by_steps, steps
+from momentwright.stretches import fraction_roots, stretches, stretches_hold
 from momentwright.sums import square_sum, worth
 from support import crowd, poly, with_roots
 
@@ -23,6 +27,9 @@ SUMS = (
     poly(0), poly(5), poly(-1, 2), poly(1, 0, 1), poly(2, 0, 2, 0, 2), poly(0, 0, 3),
     poly(1, "1/2", "1/3", "1/4", "1/5"),
 )
+FLOCKS = ((poly(1), []), (poly(0, 1), poly(3)), (poly(-1, 0, 1), poly(2, 1)), (poly(-2, 0, 1), poly(3, 2)))
+HAD = (poly(0), poly(0, 0, 0), poly(5), poly(1, 0), poly(1, 0, 1), poly(2, 0, 2, 0, 2), poly(1, "1/2", "1/3", "1/4"))
+BARRED = (poly(-1), poly(0, 2), poly(1, 1, 0), poly(1, 1, 1, 3), poly(2, 0, 2, 0, 1))
 THINGS = (
     [(1, 1), [(1, 2), {"a": [None, True]}], (0, 1)], [((0, 1), (1, 1)), [[], ["a"]]], {"a": [1, [2]]}, ([[]], [{}]),
     None,
@@ -44,6 +51,16 @@ def rows():
     told += [(chain, [f]) for f in ROOTED]
     told += [(how_many, [f, low, high]) for f in ROOTED for low in (None, (0, 1)) for high in (None, (0, 1), (2, 1))]
     told += [(signs_at, [f, g]) for f in ROOTED for g in POLYNOMIALS]
+    told += [(stretches, [f, width]) for f in ROOTED for width in ((3, 1), (1, 100))]
+    told += [(stretches_hold, [f, (1, 1), thing]) for f in ROOTED for thing in THINGS + ([((1, 1), (2, 1))],)]
+    told += [(fraction_roots, [f]) for f in ROOTED]
+    told += [(is_flock, [thing]) for thing in THINGS + FLOCKS]
+    told += [(flock_of, [one]) for one in CROWDS] + [(crowd_of, [flock]) for flock in FLOCKS]
+    told += [(flock_sums, [flock, many]) for flock in FLOCKS for many in (1, 5)]
+    told += [(bars, [sums, thing]) for sums in SUMS for thing in THINGS + (("below", [(1, 1)]), ("nought", [], []))]
+    told += [(back, [sums]) for sums in SUMS + HAD + BARRED]
+    told += [(ask, [sums]) for ask in (is_tight, next_sum, fewest) for sums in HAD]
+    told += [(led_on, [sums, many]) for sums in HAD for many in (0, 1, 3)]
     return told
 
 
@@ -54,6 +71,10 @@ def refused_rows():
     told += [(signs_at, [[], g], NoPolynomial) for g in POLYNOMIALS]
     told += [(ask, [sums, poly(*range(1, 8))], NoSums) for ask in (worth, by_steps) for sums in SUMS]
     told += [(square_sum, [sums, poly(1, 2, 3), poly(1, 2, 3, 4)], NoSums) for sums in SUMS]
+    told += [(stretches, [[], (1, 1)], NoPolynomial), (fraction_roots, [[]], NoPolynomial)]
+    told += [(stretches_hold, [[], (1, 1), thing], NoPolynomial) for thing in THINGS]
+    told += [(ask, [sums], NoSums) for ask in (is_tight, next_sum, fewest) for sums in BARRED]
+    told += [(led_on, [sums, 2], NoSums) for sums in BARRED]
     return told
 
 

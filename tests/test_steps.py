@@ -8,14 +8,8 @@ from momentwright.crowds import sums_of
 from momentwright.errors import NoSums
 from momentwright.steps import by_steps, steps
 from support import (
-    crowd, cut, our, padded, poly, product, py, some_crowd, some_fraction, some_polynomial, sums_by_hand, total,
-    with_roots,
+    crowd, cut, drawn_sums, our, padded, poly, py, some_crowd, some_polynomial, square, sums_by_hand, total, with_roots,
 )
-
-
-def square(sums, f, g):
-    """The square sum of two polynomials, as one of Python's own fractions."""
-    return sum((py(one) * py(other) for one, other in zip(product(f, g), sums)), Fraction(0))
 
 
 def steps_by_hand(sums):
@@ -31,17 +25,6 @@ def steps_by_hand(sums):
         if told[-1][1][0] <= 0:
             break
     return told
-
-
-def drawn_sums(chance, many, figures):
-    """Sums of one sort or another: drawn ones, those of a crowd, such with one changed."""
-    sort = chance.randrange(3)
-    if sort == 0:
-        return [some_fraction(chance, figures) for _ in range(many)]
-    sums = sums_by_hand(some_crowd(chance, chance.randint(0, 6), figures), many)
-    if sort == 1:
-        sums[chance.randrange(many)] = some_fraction(chance, figures)
-    return sums
 
 
 class TestSteps(unittest.TestCase):
