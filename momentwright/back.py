@@ -47,11 +47,18 @@ def outlook(sums):
     return ("open", furthest_step(sums + [ZERO] if len(sums) & 1 else sums))
 
 
+def is_bar(told):
+    """Whether an outlook is a bar."""
+    return told[0] not in ("tight", "open")
+
+
+def flock_with(sums, roots):
+    """The flock of these roots that has the sums, where there is one."""
+    above = trimmed([worth(sums, roots[k + 1:]) for k in range(len(roots) - 1)], ZERO)
+    return (roots, weights_by(above, roots))
+
+
 def back(sums):
     """A tuple ("flock", flock), some flock that has the sums, or some bar of them."""
     told = outlook(sums)
-    if told[0] not in ("tight", "open"):
-        return told
-    roots = told[1]
-    above = trimmed([worth(sums, roots[k + 1:]) for k in range(len(roots) - 1)], ZERO)
-    return ("flock", (roots, weights_by(above, roots)))
+    return told if is_bar(told) else ("flock", flock_with(sums, told[1]))

@@ -1,6 +1,6 @@
 """One sum more: what may come behind sums that some flock has."""
 
-from momentwright.back import outlook
+from momentwright.back import is_bar, outlook
 from momentwright.errors import NoSums
 from momentwright.fractions import minus
 from momentwright.polynomials import ZERO
@@ -10,7 +10,7 @@ from momentwright.sums import worth
 def had(sums):
     """A tuple ("tight", roots) or ("open", roots), the roots of a flock with the sums that has as few as can be."""
     told = outlook(sums)
-    if told[0] not in ("tight", "open"):
+    if is_bar(told):
         raise NoSums("no flock has these sums")
     return told
 

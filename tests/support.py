@@ -3,6 +3,8 @@
 from fractions import Fraction
 from math import isqrt
 
+from momentwright.back import back
+
 
 def py(one):
     """Python's own fraction of a fraction of the program."""
@@ -286,3 +288,34 @@ def with_surds(chance, roots):
     if chance.random() < 0.3:
         f = cross(f, chance.choice(NO_ROOTS))
     return f
+
+
+# Sums that no flock has.
+BARRED = (
+    poly(-1), poly(0, 1), poly(0, 0, -2), poly(1, 2, 1), poly(1, 1, 1, 2), poly(1, 0, 1, 0, 1, 1), poly(0, 0, 0, 0, 7),
+    poly(*[0] * 10, 1), poly(1, 1, 0, 5, 5), poly(2, 0, 2, 0, 1), poly("-1/1000000", 5),
+)
+
+
+def has_flock(sums):
+    """Whether some flock has the sums."""
+    return back(sums)[0] == "flock"
+
+
+def flocks_sums(chance, many):
+    """Sums that some flock has."""
+    while True:
+        sums = drawn_sums(chance, many, 1)
+        if has_flock(sums):
+            return sums
+
+
+# Roots that are no fractions, with weights above 0 at each.
+FLOCKS = (
+    (poly(-2, 0, 1), poly(1)),
+    (poly(-2, 0, 1), poly(3, 2)),
+    (poly(-1, -1, 1), poly("1/2", "1/3")),
+    (poly(1, -3, 0, 1), poly(5, 1, "1/7")),
+    (cross(poly(-2, 0, 1), poly(-3, 0, 1), poly(-5, 0, 1)), poly(40, 1, 1, 1, "1/9", "1/9")),
+    (cross(poly(-2, 0, 1), poly(0, 1)), poly(1, 0, 1)),
+)

@@ -7,21 +7,11 @@ from fractions import Fraction
 from momentwright.crowds import sums_of
 from momentwright.flocks import crowd_of, flock_of, flock_sums, is_flock
 from support import (
-    Surd, cross, crowd, cut, flock_sums_by_hand, is_flock_by_hand, nested, our, poly, py, some_crowd, some_polynomial,
-    some_roots, sums_by_hand, surds_of, value, with_roots,
+    FLOCKS, Surd, cross, crowd, cut, flock_sums_by_hand, is_flock_by_hand, nested, our, poly, py, some_crowd,
+    some_polynomial, some_roots, sums_by_hand, surds_of, value, with_roots,
 )
 
 EMPTY = (poly(1), [])
-
-# Roots that are no fractions, with weights above 0 at each.
-FLOCKS = (
-    (poly(-2, 0, 1), poly(1)),
-    (poly(-2, 0, 1), poly(3, 2)),
-    (poly(-1, -1, 1), poly("1/2", "1/3")),
-    (poly(1, -3, 0, 1), poly(5, 1, "1/7")),
-    (cross(poly(-2, 0, 1), poly(-3, 0, 1), poly(-5, 0, 1)), poly(40, 1, 1, 1, "1/9", "1/9")),
-    (cross(poly(-2, 0, 1), poly(0, 1)), poly(1, 0, 1)),
-)
 
 NOT_FLOCKS = (
     # Not led by 1.

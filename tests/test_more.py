@@ -9,25 +9,9 @@ from momentwright.crowds import sums_of
 from momentwright.errors import NoSums
 from momentwright.flocks import flock_sums
 from momentwright.more import fewest, is_tight, led_on, next_sum
-from support import crowd, cross, drawn_sums, flock_sums_by_hand, our, poly, py, some_crowd, sums_by_hand
-
-BARRED = (
-    poly(-1), poly(0, 1), poly(0, 0, -2), poly(1, 2, 1), poly(1, 1, 1, 2), poly(1, 0, 1, 0, 1, 1), poly(0, 0, 0, 0, 7),
-    poly(*[0] * 10, 1), poly(1, 1, 0, 5, 5), poly(2, 0, 2, 0, 1), poly("-1/1000000", 5),
+from support import (
+    BARRED, cross, crowd, flock_sums_by_hand, flocks_sums, has_flock, our, poly, py, some_crowd, sums_by_hand,
 )
-
-
-def has_flock(sums):
-    """Whether some flock has the sums."""
-    return back(sums)[0] == "flock"
-
-
-def flocks_sums(chance, many):
-    """Sums that some flock has."""
-    while True:
-        sums = drawn_sums(chance, many, 1)
-        if has_flock(sums):
-            return sums
 
 
 class TestTight(unittest.TestCase):

@@ -6,15 +6,19 @@ import unittest
 from momentwright.back import back, bars
 from momentwright.chains import chain, how_many, signs_at
 from momentwright.crowds import is_crowd, sums_of
-from momentwright.errors import NoPolynomial, NoSums
+from momentwright.errors import NoFlock, NoPolynomial, NoSums, NoWalk
 from momentwright.flocks import crowd_of, flock_of, flock_sums, is_flock
 from momentwright.more import fewest, is_tight, led_on, next_sum
+from momentwright.onward import back_from, bar_from_holds, even_sums, sums_from
 from momentwright.polynomials import (
     grown, is_polynomial, led, lessened, multiplied, number_at, parted, shared, slope, summed,
 )
+from momentwright.quotients import first_sums, flock_by, quotient_of
+from momentwright.spots import flock_at, least_square, shows_most, weight_up_to
 from momentwright.steps import by_steps, steps
 from momentwright.stretches import fraction_roots, stretches, stretches_hold
 from momentwright.sums import square_sum, worth
+from momentwright.walks import sums_by, turns_of, walk_worth, walks_of
 from support import crowd, poly, with_roots
 
 POLYNOMIALS = (
@@ -30,6 +34,10 @@ SUMS = (
 FLOCKS = ((poly(1), []), (poly(0, 1), poly(3)), (poly(-1, 0, 1), poly(2, 1)), (poly(-2, 0, 1), poly(3, 2)))
 HAD = (poly(0), poly(0, 0, 0), poly(5), poly(1, 0), poly(1, 0, 1), poly(2, 0, 2, 0, 2), poly(1, "1/2", "1/3", "1/4"))
 BARRED = (poly(-1), poly(0, 2), poly(1, 1, 0), poly(1, 1, 1, 3), poly(2, 0, 2, 0, 1))
+GOOD = (([], poly(5)), ([], poly(0)), (poly(2), poly(1)), (poly(-1, 0), poly(2, "1/3", 0)), (poly(1, 1), poly(1, 1, 4)))
+BAD = (([], []), (poly(1), []), (poly(1, 1), poly(1, 0)), ([], poly(-1)), (poly(1), poly(0, 1)), ([[]], [[]]))
+QUOTIENTS = (([], poly(1)), (poly(2), poly(-1, 1)), (poly(0, 2), poly(-1, 0, 1)), (poly(8, 6), poly(-2, 0, 1)))
+NO_QUOTIENTS = (([], []), (poly(1), poly(1)), (poly(1), poly(-1, 2)), ([], poly(0, 1)), (poly(1), poly(1, 0, 1)))
 THINGS = (
     [(1, 1), [(1, 2), {"a": [None, True]}], (0, 1)], [((0, 1), (1, 1)), [[], ["a"]]], {"a": [1, [2]]}, ([[]], [{}]),
     None,
@@ -61,6 +69,25 @@ def rows():
     told += [(back, [sums]) for sums in SUMS + HAD + BARRED]
     told += [(ask, [sums]) for ask in (is_tight, next_sum, fewest) for sums in HAD]
     told += [(led_on, [sums, many]) for sums in HAD for many in (0, 1, 3)]
+    return told + later_rows()
+
+
+def later_rows():
+    """Those of walks, quotients, told spots and from a spot on."""
+    told = [(turns_of, [sums]) for sums in HAD] + [(sums_by, list(good)) for good in GOOD]
+    told += [(walks_of, [paces, top]) for paces in (0, 1, 5) for top in (0, 1, 9)]
+    told += [(walk_worth, [(), *good]) for good in GOOD] + [(walk_worth, [(0, 1, -1), *GOOD[-1]])]
+    told += [(quotient_of, [flock]) for flock in FLOCKS] + [(flock_by, list(pair)) for pair in QUOTIENTS]
+    told += [(first_sums, [*pair, many]) for pair in QUOTIENTS for many in (0, 1, 7)]
+    told += [(flock_at, [sums, x]) for sums in HAD if len(sums) & 1 for x in FRACTIONS]
+    told += [(least_square, [sums, x]) for sums in HAD for x in FRACTIONS]
+    told += [(shows_most, [sums, (1, 1), x, f]) for sums in HAD for x in FRACTIONS for f in POLYNOMIALS]
+    told += [(shows_most, [sums, (1, 1), thing, thing]) for sums in HAD for thing in THINGS]
+    told += [(weight_up_to, [flock, x, (1, 5)]) for flock in FLOCKS for x in FRACTIONS]
+    told += [(sums_from, [sums, x]) for sums in SUMS for x in FRACTIONS if len(sums) > 1]
+    told += [(ask, [sums, x]) for ask in (back_from, even_sums) for sums in SUMS + HAD + BARRED for x in FRACTIONS]
+    bars_from = tuple((word, [(1, 1)], at) for word in ("below", "nought") for at in (0, 1))
+    told += [(bar_from_holds, [sums, (2, 1), thing]) for sums in SUMS for thing in THINGS + bars_from]
     return told
 
 
@@ -75,6 +102,13 @@ def refused_rows():
     told += [(stretches_hold, [[], (1, 1), thing], NoPolynomial) for thing in THINGS]
     told += [(ask, [sums], NoSums) for ask in (is_tight, next_sum, fewest) for sums in BARRED]
     told += [(led_on, [sums, 2], NoSums) for sums in BARRED]
+    told += [(turns_of, [sums], NoSums) for sums in BARRED]
+    told += [(ask, [sums, (1, 1)], NoSums) for ask in (flock_at, least_square) for sums in BARRED]
+    told += [(flock_at, [sums, (1, 1)], NoSums) for sums in HAD if not len(sums) & 1]
+    told += [(shows_most, [sums, (1, 1), thing, thing], NoSums) for sums in BARRED for thing in THINGS]
+    told += [(sums_by, list(bad), NoWalk) for bad in BAD]
+    told += [(walk_worth, [(1, 1, 1, -1, -1, -1), *good], NoWalk) for good in GOOD]
+    told += [(flock_by, list(pair), NoFlock) for pair in NO_QUOTIENTS]
     return told
 
 
@@ -154,6 +188,20 @@ class TestOwn(unittest.TestCase):
                 self.assertEqual(same, f, ask.__name__)
                 for one in lists_of(told):
                     self.assertIsNot(one, same, ask.__name__)
+
+    def test_the_same_list_at_several_places(self):
+        asks = (
+            (sums_by, lambda f, g: [f, g], poly(1, 2)), (walk_worth, lambda f, g: [(0,), f, g], poly(1, 2)),
+            (first_sums, lambda f, g: [[], f, 5], poly(1)), (shows_most, lambda f, g: [f, (1, 1), f, g], poly(1, 0, 1)),
+            (bar_from_holds, lambda f, g: [f, (1, 1), ("nought", f, g, 0)], poly(1, 0, 1)),
+        )
+        for ask, hand_in, f in asks:
+            same = copy.deepcopy(f)
+            told = ask(*hand_in(same, same))
+            self.assertEqual(told, ask(*copy.deepcopy(hand_in(f, copy.deepcopy(f)))), ask.__name__)
+            self.assertEqual(same, f, ask.__name__)
+            for one in lists_of(told):
+                self.assertIsNot(one, same, ask.__name__)
 
     def test_a_refusal_changes_nothing_and_comes_again(self):
         for ask, handed, refusal in refused_rows():
