@@ -107,6 +107,46 @@ class TestLanguage(unittest.TestCase):
                     for one in node.names:
                         self.assertIn(one.name, defined[node.module], name)
 
+    def test_no_two_files_import_from_each_other(self):
+        imports = {}
+        for name, _, tree in sources():
+            imports[name[:-3]] = [node.module.split(".")[1] for node in tree.body if isinstance(node, ast.ImportFrom)]
+        while imports:
+            free = [name for name, needed in imports.items() if not any(one in imports for one in needed)]
+            self.assertNotEqual(free, [], imports)
+            for name in free:
+                del imports[name]
+
+    def test_classes(self):
+        methods, attributes = set(), set()
+        for name, _, tree in sources():
+            for one in tree.body:
+                if isinstance(one, ast.ClassDef):
+                    self.assertLessEqual(len(one.bases), 1, name)
+                    for node in one.body[1:]:
+                        self.assertIsInstance(node, ast.FunctionDef, name)
+                        methods.add(node.name)
+            for node in ast.walk(tree):
+                if isinstance(node, ast.Attribute) and isinstance(node.ctx, ast.Store):
+                    attributes.add(node.attr)
+        self.assertEqual(methods & attributes, set())
+        # No own name is one that builtin values have.
+        taken = [dir(value) for value in ("", 1, [], {}, set(), b"")]
+        for own in (methods | attributes) - {"__init__"}:
+            self.assertFalse(any(own in names for names in taken), own)
+
+    def test_errors_of_python_are_caught_around_plain_calls_only(self):
+        for name, _, tree in sources():
+            for node in ast.walk(tree):
+                if not isinstance(node, ast.Try):
+                    continue
+                for handler in node.handlers:
+                    self.assertIsInstance(handler.type, ast.Name, name)
+                    if handler.type.id in dir(builtins):
+                        self.assertEqual(handler.type.id, "ValueError", name)
+                        calls = [one for part in node.body for one in ast.walk(part) if isinstance(one, ast.Call)]
+                        self.assertEqual([one.func.id for one in calls], ["int"], name)
+
     def test_names(self):
         for name, _, tree in sources():
             imported = [one.name for node in tree.body if isinstance(node, ast.ImportFrom) for one in node.names]

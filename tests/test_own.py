@@ -6,8 +6,13 @@ import unittest
 from momentwright.back import back, bars
 from momentwright.chains import chain, how_many, signs_at
 from momentwright.crowds import is_crowd, sums_of
-from momentwright.errors import NoFlock, NoPolynomial, NoSums, NoWalk
+from momentwright.errors import NoFlock, NoFraction, NoPolynomial, NoSums, NoText, NoWalk
 from momentwright.flocks import crowd_of, flock_of, flock_sums, is_flock
+from momentwright.fractions import is_fraction, over, ratio
+from momentwright.joins import (
+    crowd_added, crowd_grown, crowd_moved, crowd_multiplied, crowd_poured, crowd_weighted, flock_grown, flock_moved,
+    sums_added, sums_grown, sums_moved, sums_multiplied, sums_poured, sums_weighted,
+)
 from momentwright.more import fewest, is_tight, led_on, next_sum
 from momentwright.onward import back_from, bar_from_holds, even_sums, sums_from
 from momentwright.polynomials import (
@@ -18,6 +23,9 @@ from momentwright.spots import flock_at, least_square, shows_most, weight_up_to
 from momentwright.steps import by_steps, steps
 from momentwright.stretches import fraction_roots, stretches, stretches_hold
 from momentwright.sums import square_sum, worth
+from momentwright.texts import (
+    crowd_text, fraction_text, polynomial_text, read_crowd, read_fraction, read_polynomial, read_sums, sums_text,
+)
 from momentwright.walks import sums_by, turns_of, walk_worth, walks_of
 from support import crowd, poly, with_roots
 
@@ -69,7 +77,7 @@ def rows():
     told += [(back, [sums]) for sums in SUMS + HAD + BARRED]
     told += [(ask, [sums]) for ask in (is_tight, next_sum, fewest) for sums in HAD]
     told += [(led_on, [sums, many]) for sums in HAD for many in (0, 1, 3)]
-    return told + later_rows()
+    return told + later_rows() + last_rows()
 
 
 def later_rows():
@@ -91,6 +99,24 @@ def later_rows():
     return told
 
 
+def last_rows():
+    """Those of joins and texts."""
+    told = [(ask, [sums, x]) for ask in (sums_moved, sums_grown, sums_weighted) for sums in SUMS for x in FRACTIONS]
+    pairs = [(one, other) for one in SUMS for other in SUMS]
+    told += [(ask, list(pair)) for ask in (sums_poured, sums_added, sums_multiplied) for pair in pairs]
+    told += [(ask, [one, x]) for ask in (crowd_moved, crowd_grown) for one in CROWDS for x in FRACTIONS]
+    told += [(crowd_weighted, [one, (2, 3)]) for one in CROWDS]
+    pairs = [(one, other) for one in CROWDS for other in CROWDS]
+    told += [(ask, list(pair)) for ask in (crowd_poured, crowd_added, crowd_multiplied) for pair in pairs]
+    told += [(ask, [flock, x]) for ask in (flock_moved, flock_grown) for flock in FLOCKS for x in FRACTIONS[1:]]
+    told += [(flock_moved, [flock, (0, 1)]) for flock in FLOCKS]
+    told += [(is_fraction, [thing]) for thing in THINGS + FRACTIONS] + [(fraction_text, [x]) for x in FRACTIONS]
+    told += [(sums_text, [sums]) for sums in SUMS] + [(polynomial_text, [f]) for f in POLYNOMIALS]
+    told += [(crowd_text, [one]) for one in CROWDS]
+    told += [(read_fraction, ["1/2"]), (read_sums, ["1 0"]), (read_crowd, ["0:1 1/2:3"]), (read_crowd, ["none"])]
+    return told + [(read_polynomial, [text]) for text in ("nought", "0 1")]
+
+
 def refused_rows():
     """Tuples (ask, handed in, refusal) of questions that are refused."""
     told = [(parted, [f, []], NoPolynomial) for f in POLYNOMIALS]
@@ -109,6 +135,10 @@ def refused_rows():
     told += [(sums_by, list(bad), NoWalk) for bad in BAD]
     told += [(walk_worth, [(1, 1, 1, -1, -1, -1), *good], NoWalk) for good in GOOD]
     told += [(flock_by, list(pair), NoFlock) for pair in NO_QUOTIENTS]
+    readers = (read_fraction, read_sums, read_polynomial, read_crowd)
+    told += [(ask, [thing], NoText) for ask in readers for thing in THINGS + ("", "1 ", "2/4", "1:0")]
+    told += [(ratio, [1, 0], NoFraction), (ratio, [0, 0], NoFraction)]
+    told += [(over, [x, (0, 1)], NoFraction) for x in FRACTIONS]
     return told
 
 
@@ -161,6 +191,17 @@ class TestOwn(unittest.TestCase):
             self.assertEqual(handed, before, ask.__name__)
             self.assertEqual(ask(*handed), kept, ask.__name__)
 
+    def test_lists_changed_between_two_questions(self):
+        # Changed and changed back, what was handed in is the same question again.
+        for ask, handed in questions():
+            kept = copy.deepcopy(ask(*handed))
+            for one in lists_of(handed):
+                one.append((99, 1))
+            for one in lists_of(handed):
+                if one[-1:] == [(99, 1)]:
+                    one.pop()
+            self.assertEqual(ask(*handed), kept, ask.__name__)
+
     def test_one_told_list_changed_leaves_the_other(self):
         quotient, rest = parted([], poly(1, 1))
         quotient.append((1, 1))
@@ -194,6 +235,14 @@ class TestOwn(unittest.TestCase):
             (sums_by, lambda f, g: [f, g], poly(1, 2)), (walk_worth, lambda f, g: [(0,), f, g], poly(1, 2)),
             (first_sums, lambda f, g: [[], f, 5], poly(1)), (shows_most, lambda f, g: [f, (1, 1), f, g], poly(1, 0, 1)),
             (bar_from_holds, lambda f, g: [f, (1, 1), ("nought", f, g, 0)], poly(1, 0, 1)),
+            (worth, lambda f, g: [f, g], poly(1, 0, 1)), (square_sum, lambda f, g: [f + f, f, g], poly(1, 0, 1)),
+            (by_steps, lambda f, g: [f, g], poly(1)), (bars, lambda f, g: [f, ("nought", g, f)], poly(0)),
+            (is_flock, lambda f, g: [(f, g)], poly(1)), (stretches_hold, lambda f, g: [f, (1, 1), g], poly(1)),
+            (sums_poured, lambda f, g: [f, g], poly(1, 2)), (sums_added, lambda f, g: [f, g], poly(1, 2)),
+            (sums_multiplied, lambda f, g: [f, g], poly(1, 2)),
+            (crowd_poured, lambda f, g: [f, g], crowd((0, 1), (2, 3))),
+            (crowd_added, lambda f, g: [f, g], crowd((0, 1), (2, 3))),
+            (crowd_multiplied, lambda f, g: [f, g], crowd((-1, 1), (2, 3))),
         )
         for ask, hand_in, f in asks:
             same = copy.deepcopy(f)
